@@ -1,0 +1,1 @@
+"""Tieseek: a web of things and ties, asked by patterns of ways."""
