@@ -1,8 +1,10 @@
-"""What several tests need: webs made ready, and all that a web tells, in one value."""
+"""What several tests need: webs and patterns made ready, and all that a web tells, in one value."""
 
 from tieseek.web import Web
 
 LETTERS = "abcdefghijklmnopqrstuvwxyz"
+# Every sign that a text may hold [0.2].
+SIGNS = [chr(code) for code in range(32, 127)] + ["\n", "\t"]
 GREATEST = 10 ** 60 - 1
 TOO_LONG = (10 ** 60, -(10 ** 60), 10 ** 61, 10 ** 5000, -(10 ** 5000))
 # Texts that are no good names, one of each sort.
@@ -10,6 +12,13 @@ BAD_NAMES = (
     "", " ", "\n", "\t", "_", "?", "~", "A", "Ab", "aB", "a b", " a", "a ", "a\n", "\na", "a\t",
     "a1", "1", "0", "-1", "a_b", "?a", "a?", "a.b", "<a", "abcdefghijklm", "a" * 500,
 )
+# Texts that write no number, one of each sort.
+BAD_NUMBERS = (
+    "", "-", "+", "-0", "+0", "+1", "--1", "-+1", "00", "01", "-01", "1-", "1_0", "1.0", "1e3", "0x1", "a", "a1", "1a",
+    "\t1", "1\t", "\n1", "1\n", "1" * 61, "-" + "1" * 61, "1" + "0" * 60, "0" * 60, "9" * 5000,
+)
+REPEATS = ("many", "some", "maybe")
+MARK_SIGNS = ("", "<", ">", "=", "!")
 
 
 def name_at(place):
@@ -89,3 +98,44 @@ def refused_unchanged(case, web, error, call, *given):
     ahead = (shown(web), next_number(web))
     refused(case, error, call, *given)
     case.assertEqual((shown(web), next_number(web)), ahead)
+
+
+def mark(name, back=False, sign="", number=0):
+    return ("mark", name, back, sign, number)
+
+
+def in_turn(tree):
+    """The same tree with unlike marks, from left to right: aa, <ab[<1], ac[>2] and so on."""
+    made = []
+
+    def walk(part):
+        if part[0] != "mark":
+            return (part[0],) + tuple([walk(inner) for inner in part[1:]])
+        place = len(made)
+        sign = MARK_SIGNS[place % 5]
+        made.append(mark(name_at(place), place % 2 == 1, sign, place if sign else 0))
+        return made[-1]
+
+    return walk(tree)
+
+
+def grown(lefts, rights):
+    """A mark, each kind of pattern round each of the lefts, and each pair of the two in a row and in an or."""
+    trees = [mark("a")]
+    for left in lefts:
+        trees.extend([(kind, left) for kind in REPEATS])
+        trees.extend([(kind, left, right) for kind in ("row", "or") for right in rights])
+    return trees
+
+
+def small_trees():
+    """All patterns of at most 3 deep, with unlike marks."""
+    low = grown([mark("a")], [mark("a")])
+    return [in_turn(tree) for tree in grown(low, low)]
+
+
+def tall_trees():
+    """Patterns of at most 4 deep, with unlike marks: all kinds in all kinds in all kinds, left and right."""
+    alone = [mark("a")]
+    low = grown(grown(alone, alone), grown(alone, alone))
+    return [in_turn(tree) for tree in grown(low, alone) + grown(alone, low)]

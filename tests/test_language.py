@@ -35,6 +35,16 @@ WORDS_OUT = (
     r"\b(type|typing|typing_extensions|enum|Enum|IntEnum|StrEnum|Flag|IntFlag|Generic|Protocol|ABC|ABCMeta"
     r"|namedtuple|NamedTuple|TypedDict|TYPE_CHECKING|abstractmethod)\b|dataclass|overload|contextmanager"
 )
+# Of Python's own errors, those that may be taken round any call.
+FREE_ERRORS = ("KeyError", "ZeroDivisionError", "StopIteration")
+# What is walked on the spot, and the calls that walk what is handed to them first.
+WALKED = "zip enumerate reversed range items keys values".split()
+WALKERS = "list tuple dict sorted sum any all enumerate zip min max join".split()
+# The calls and methods by which a list or dict of a file's top may be read.
+READERS = "len list tuple dict sorted sum min max any all enumerate zip reversed".split()
+READING = "get index count keys values items copy".split()
+# Names of Python's own methods that a value of an object may bear.
+VALUES_LIKE_METHODS = "count index title find get join lower upper split strip copy add".split()
 NAMES_OUT = "register mro elements open input version_info with_traceback add_note format format_map".split()
 
 
@@ -61,6 +71,48 @@ def drawn(path):
 
 def module_path(module):
     return PACKAGE.parent / (module.replace(".", "/") + ".py")
+
+
+def called_name(node):
+    """The name of the function or method that a node calls, or None."""
+    if not isinstance(node, ast.Call):
+        return None
+    return node.func.attr if isinstance(node.func, ast.Attribute) else getattr(node.func, "id", None)
+
+
+def uses(path):
+    """All nodes of a file, each with the node that it stands in."""
+    return [(node, around) for around in nodes(path) for node in ast.iter_child_nodes(around)]
+
+
+def is_walked(node, around):
+    if isinstance(around, (ast.For, ast.comprehension)):
+        return around.iter is node
+    return called_name(around) in WALKERS and around.args[0] is node
+
+
+def is_read(node, around):
+    """Whether a list or dict of a file's top is only read where it stands."""
+    if isinstance(around, ast.Subscript):
+        return around.value is node and isinstance(around.ctx, ast.Load)
+    if isinstance(around, ast.Attribute):
+        return around.attr in READING
+    return isinstance(around, (ast.Compare, ast.For, ast.comprehension)) or called_name(around) in READERS
+
+
+def is_plain(node, within):
+    """Whether a value of a file's top is plain: one, or a list, tuple or dict of such ones and of functions."""
+    if isinstance(node, ast.Constant):
+        return True
+    if isinstance(node, ast.Name):
+        return within
+    if isinstance(node, ast.Dict):
+        return not within and all(is_plain(part, True) for part in node.keys + node.values)
+    if isinstance(node, ast.List) and within:
+        return False
+    if isinstance(node, (ast.List, ast.Tuple)):
+        return all(is_plain(part, True) for part in node.elts)
+    return isinstance(node, ast.UnaryOp) and isinstance(node.operand, ast.Constant)
 
 
 class Language(unittest.TestCase):
@@ -123,8 +175,14 @@ class Language(unittest.TestCase):
                     self.assertLessEqual(len(node.generators[0].ifs), 1)
                 if isinstance(node, ast.Constant):
                     self.assertIn(node.value.__class__, (int, str, bool, type(None)))
-                if isinstance(node, ast.Compare) and isinstance(node.ops[0], (ast.Is, ast.IsNot)):
-                    self.assertIsInstance(node.comparators[0], ast.Constant)
+                if isinstance(node, ast.Compare):
+                    for sign, value in zip(node.ops, node.comparators):
+                        if isinstance(sign, (ast.Is, ast.IsNot)):
+                            self.assertIsInstance(value, ast.Constant)
+                            self.assertIn(value.value, (None, True, False))
+                if isinstance(node, ast.FormattedValue):
+                    self.assertIsInstance(node.value, ast.Name)
+                    self.assertIsNone(node.format_spec)
 
     def test_reckoning(self):
         for place, node in self.each(ast.BinOp):
@@ -150,9 +208,11 @@ class Language(unittest.TestCase):
                 with self.subTest(file=path.name, name=name):
                     self.assertTrue(module.startswith("tieseek."))
                     self.assertIn(name, defined(module_path(module)))
-        for place, node in self.each(ast.ImportFrom):
-            with self.subTest(place):
-                self.assertEqual(node.level, 0)
+            for node, around in uses(path):
+                if isinstance(node, ast.ImportFrom):
+                    with self.subTest(file=path.name, line=node.lineno):
+                        self.assertEqual(node.level, 0)
+                        self.assertIsInstance(around, ast.Module)
 
     def test_no_ring_of_imports(self):
         ahead = {path: {module_path(module) for module, name in drawn(path)} for path in FILES}
@@ -210,6 +270,71 @@ class Language(unittest.TestCase):
             with self.subTest(place):
                 if isinstance(node.func, ast.Attribute):
                     self.assertIn(node.func.attr, OWN_METHODS + methods)
+
+    def test_values_of_objects(self):
+        taken = [name for sort in (str, int, list, tuple, dict, set, bytes) for name in dir(sort)]
+        for place, node in self.each(ast.Attribute):
+            if isinstance(node.ctx, ast.Store):
+                with self.subTest(place):
+                    self.assertTrue(node.attr in VALUES_LIKE_METHODS or node.attr not in taken)
+
+    def test_top_is_plain_and_only_read(self):
+        for path in FILES:
+            kept = []
+            for part in ast.parse(path.read_text()).body:
+                if isinstance(part, ast.Assign):
+                    with self.subTest(file=path.name, line=part.lineno):
+                        self.assertTrue(is_plain(part.value, False))
+                    if isinstance(part.value, (ast.List, ast.Dict)):
+                        kept.append(part.targets[0].id)
+            for node, around in uses(path):
+                if isinstance(node, ast.Name) and isinstance(node.ctx, ast.Load) and node.id in kept:
+                    with self.subTest(file=path.name, line=node.lineno):
+                        self.assertTrue(is_read(node, around))
+
+    def test_errors_taken_and_raised(self):
+        own = defined(PACKAGE / "errors.py")
+        for place, node in self.each(ast.ExceptHandler):
+            with self.subTest(place):
+                taken = node.type.elts if isinstance(node.type, ast.Tuple) else [node.type]
+                for one in taken:
+                    self.assertIn(one.id, own + list(FREE_ERRORS))
+        for place, node in self.each(ast.Raise):
+            with self.subTest(place):
+                self.assertIn(called_name(node.exc), own)
+                self.assertEqual(node.exc.keywords, [])
+
+    def test_asked_for_a_kind(self):
+        kinds = "int str bool list tuple dict".split() + [node.name for place, node in self.each(ast.ClassDef)]
+        for place, node in self.each(ast.Call):
+            if called_name(node) == "isinstance":
+                with self.subTest(place):
+                    asked = node.args[1].elts if isinstance(node.args[1], ast.Tuple) else [node.args[1]]
+                    for one in asked:
+                        self.assertIn(one.id, kinds)
+
+    def test_walked_at_once(self):
+        for path in FILES:
+            for node, around in uses(path):
+                if called_name(node) in WALKED:
+                    with self.subTest(file=path.name, line=node.lineno):
+                        self.assertTrue(is_walked(node, around))
+
+    def test_python_own_calls_are_called(self):
+        for path in FILES:
+            for node, around in uses(path):
+                own = isinstance(node, ast.Name) and node.id in OWN_NAMES and not node.id[0].isupper()
+                if own or (isinstance(node, ast.Attribute) and node.attr in OWN_METHODS):
+                    with self.subTest(file=path.name, line=node.lineno):
+                        self.assertIsInstance(around, (ast.Call, ast.keyword, ast.Tuple))
+
+    def test_sets_are_not_kept(self):
+        for path in FILES:
+            for node, around in uses(path):
+                if isinstance(node, ast.Set) or called_name(node) in ("set", "frozenset"):
+                    with self.subTest(file=path.name, line=node.lineno):
+                        beside = isinstance(around, (ast.Compare, ast.BinOp))
+                        self.assertTrue(beside or called_name(around) in ("sorted", "len"))
 
     def test_texts(self):
         for path in FILES:

@@ -3,10 +3,8 @@ import unittest
 from tieseek.errors import NoNumber
 from tieseek.names import good_name, number_read, number_shown
 
-from helper import BAD_NAMES, LETTERS, refused
+from helper import BAD_NAMES, BAD_NUMBERS, LETTERS, SIGNS, refused
 
-# Every sign that a text may hold [0.2].
-SIGNS = [chr(code) for code in range(32, 127)] + ["\n", "\t"]
 OTHER_SIGNS = [sign for sign in SIGNS if sign not in LETTERS]
 FIGURES = "0123456789"
 
@@ -118,6 +116,10 @@ class WrittenNumbers(unittest.TestCase):
 
     def test_other_ways_of_writing(self):
         for text in ("1.0", "1e3", "0x1", "0b1", "ten", "1,0", "1/1", "1-", "1-1"):
+            self.check_refused(text)
+
+    def test_bad_numbers(self):
+        for text in BAD_NUMBERS:
             self.check_refused(text)
 
     def test_too_many_figures(self):
