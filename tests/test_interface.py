@@ -9,6 +9,15 @@ FUNCTIONS = {
     "tieseek.webtext": {"shown_web": "web", "read_web": "rows"},
     "tieseek.pieces": {"pieces": "text"},
     "tieseek.pattern": {"read_pattern": "text", "shown_pattern": "tree", "turned": "tree", "marks_of": "tree"},
+    "tieseek.machine": {
+        "machine": "tree", "fits": "mark step", "rooms_behind": "made steps", "taken": "made steps",
+        "run_of": "made steps",
+    },
+    "tieseek.walk": {"walked": "web start way", "steps_of": "web way", "turned_way": "way"},
+    "tieseek.search": {
+        "book": "web made start", "way_in": "made entries place", "ends_in": "made entries",
+        "reached": "web tree start",
+    },
 }
 METHODS = {
     ("tieseek.web", "Web"): {

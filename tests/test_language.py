@@ -45,6 +45,12 @@ READERS = "len list tuple dict sorted sum min max any all enumerate zip reversed
 READING = "get index count keys values items copy".split()
 # Names of Python's own methods that a value of an object may bear.
 VALUES_LIKE_METHODS = "count index title find get join lower upper split strip copy add".split()
+# The keywords that calls of Python's own may have.
+KEYWORDS = {
+    "sorted": ("key", "reverse"), "min": ("key", "default"), "max": ("key", "default"), "sum": ("start",),
+    "enumerate": ("start",), "zip": ("strict",),
+}
+CHANGING = "append clear extend insert pop remove reverse setdefault update".split()
 NAMES_OUT = "register mro elements open input version_info with_traceback add_note format format_map".split()
 
 
@@ -89,6 +95,26 @@ def is_walked(node, around):
     if isinstance(around, (ast.For, ast.comprehension)):
         return around.iter is node
     return called_name(around) in WALKERS and around.args[0] is node
+
+
+def walked_names(loop):
+    """What a loop walks, as texts: a name, or what stands in an enumerate, a zip, a reversed or by an items."""
+    told = [loop.iter]
+    if isinstance(loop.iter, ast.Call):
+        of = loop.iter.func.value if isinstance(loop.iter.func, ast.Attribute) else None
+        told = [of] if of is not None else loop.iter.args if called_name(loop.iter) in WALKED else []
+    return [ast.unparse(one) for one in told]
+
+
+def changed_in(loop):
+    """What is changed in a loop, as texts: what a changing method is called of, or a part of is assigned."""
+    found = []
+    for node in [inner for part in loop.body for inner in ast.walk(part)]:
+        if isinstance(node, ast.Call) and isinstance(node.func, ast.Attribute) and node.func.attr in CHANGING:
+            found.append(ast.unparse(node.func.value))
+        if isinstance(node, ast.Subscript) and isinstance(node.ctx, ast.Store):
+            found.append(ast.unparse(node.value))
+    return found
 
 
 def is_read(node, around):
@@ -335,6 +361,40 @@ class Language(unittest.TestCase):
                     with self.subTest(file=path.name, line=node.lineno):
                         beside = isinstance(around, (ast.Compare, ast.BinOp))
                         self.assertTrue(beside or called_name(around) in ("sorted", "len"))
+
+    def test_what_a_loop_walks_is_not_changed_in_it(self):
+        for place, node in self.each(ast.For):
+            with self.subTest(place):
+                self.assertEqual(set(walked_names(node)) & set(changed_in(node)), set())
+
+    def test_keywords(self):
+        own = [name for path in FILES for name in defined(path)]
+        for place, node in self.each(ast.Call):
+            with self.subTest(place):
+                if called_name(node) not in own:
+                    for one in node.keywords:
+                        self.assertIn(one.arg, KEYWORDS.get(called_name(node), ()))
+
+    def test_no_annotations(self):
+        for place, node in self.each(ast.FunctionDef, ast.arg):
+            with self.subTest(place):
+                self.assertIsNone(node.returns if isinstance(node, ast.FunctionDef) else node.annotation)
+
+    def test_a_class_is_not_handed_on(self):
+        classes = [node.name for place, node in self.each(ast.ClassDef)]
+        for path in FILES:
+            for node, around in uses(path):
+                if isinstance(node, ast.Name) and node.id in classes:
+                    with self.subTest(file=path.name, line=node.lineno):
+                        called = isinstance(around, ast.Call) and around.func is node
+                        asked = called_name(around) == "isinstance"
+                        self.assertTrue(called or asked or isinstance(around, (ast.ClassDef, ast.ExceptHandler)))
+
+    def test_first_methods_give_back_nothing(self):
+        for place, node in self.each(ast.FunctionDef):
+            if node.name == "__init__":
+                with self.subTest(place):
+                    self.assertEqual([part for part in ast.walk(node) if isinstance(part, ast.Return)], [])
 
     def test_texts(self):
         for path in FILES:

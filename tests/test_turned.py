@@ -4,57 +4,14 @@ import unittest
 from tieseek.pattern import marks_of, read_pattern, shown_pattern, turned
 from tieseek.pieces import pieces
 
-from helper import MARK_SIGNS, REPEATS, in_turn, mark, name_at, small_trees, tall_trees
+from helper import MARK_SIGNS, REPEATS, fit, in_turn, mark, name_at, named_anew, small_trees, tall_trees
 
 A, B, C = [mark(name) for name in "abc"]
 BACK_A, BACK_B, BACK_C = [mark(name, True) for name in "abc"]
 
 
-def step_fits(one, step):
-    """[0.8]"""
-    met = {
-        "": True, "<": step[1] < one[4], ">": step[1] > one[4], "=": step[1] == one[4], "!": step[1] != one[4],
-    }[one[3]]
-    return step[2] == one[2] and one[1] in ("_", step[0]) and met
-
-
-def places_behind(tree, steps, start):
-    """[0.8]: the places at which a part of the steps that fits the tree and begins at start may end."""
-    if tree[0] == "mark":
-        return {start + 1} if start < len(steps) and step_fits(tree, steps[start]) else set()
-    if tree[0] == "or":
-        return places_behind(tree[1], steps, start) | places_behind(tree[2], steps, start)
-    if tree[0] == "row":
-        return {end for middle in places_behind(tree[1], steps, start) for end in places_behind(tree[2], steps, middle)}
-    if tree[0] == "maybe":
-        return {start} | places_behind(tree[1], steps, start)
-    found = places_behind(tree[1], steps, start)
-    while True:
-        more = found | {end for middle in found for end in places_behind(tree[1], steps, middle)}
-        if more == found:
-            return found | {start} if tree[0] == "many" else found
-        found = more
-
-
-def fit(tree, steps):
-    return len(steps) in places_behind(tree, steps, 0)
-
-
 def steps_turned(steps):
     return [(name, weight, not back) for name, weight, back in reversed(steps)]
-
-
-def named_anew(tree, names):
-    """The same tree with the names in turn for its marks, every second one gone backwards, without conditions."""
-    made = []
-
-    def walk(part):
-        if part[0] != "mark":
-            return (part[0],) + tuple([walk(inner) for inner in part[1:]])
-        made.append(mark(names[len(made) % len(names)], len(made) % 2 == 1))
-        return made[-1]
-
-    return walk(tree)
 
 
 class Turned(unittest.TestCase):
