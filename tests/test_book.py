@@ -152,7 +152,7 @@ class Book(Checks):
         web.add_tie("a", "x", "d", 0)
         self.assertEqual(len(self.check(web, made, "a")), 3)
         web.add_tie("d", "x", "c", 0)
-        self.assertIn(("c", 1, 2, 3, 2), self.check(web, made, "a"))
+        self.assertIn(("c", 1, 2, 3), [entry[:4] for entry in self.check(web, made, "a")])
         self.assertEqual(kept, ahead)
 
     def test_a_full_web(self):
